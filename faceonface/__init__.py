@@ -1,0 +1,1 @@
+"""Faceonface: stamps that stamp stamps."""

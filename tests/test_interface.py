@@ -1,0 +1,29 @@
+"""The interface: names, arguments by place, and methods in the body of their own class."""
+
+import importlib
+import inspect
+import unittest
+
+FUNCTIONS = {
+    "kinds": {"is_whole": 1, "is_name": 1, "is_box": 1, "is_face": 1, "is_turning": 1, "is_deed": 1},
+    "turnings": {"both": 2, "undone": 1, "turnings_of": 1},
+}
+METHODS = {}
+
+
+class Interface(unittest.TestCase):
+    def test_functions(self):
+        for module, names in FUNCTIONS.items():
+            for name, many in names.items():
+                with self.subTest(module=module, name=name):
+                    function = getattr(importlib.import_module(f"faceonface.{module}"), name)
+                    self.assertTrue(inspect.isfunction(function))
+                    self.assertEqual(len(inspect.signature(function).parameters), many)
+
+    def test_methods(self):
+        for (module, kind), names in METHODS.items():
+            made = getattr(importlib.import_module(f"faceonface.{module}"), kind)
+            for name, many in names.items():
+                with self.subTest(kind=kind, name=name):
+                    self.assertIn(name, vars(made))
+                    self.assertEqual(len(inspect.signature(vars(made)[name]).parameters), many + 1)
