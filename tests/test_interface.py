@@ -7,8 +7,12 @@ import unittest
 FUNCTIONS = {
     "kinds": {"is_whole": 1, "is_name": 1, "is_box": 1, "is_face": 1, "is_turning": 1, "is_deed": 1},
     "turnings": {"both": 2, "undone": 1, "turnings_of": 1},
+    "faces": {"blank": 1, "box_of": 1, "turned": 2, "laid": 2, "ups": 1, "face_of": 2, "is_even": 2},
+    "rows": {"done_row": 2, "led_back": 2, "prints": 3, "shown": 2},
 }
-METHODS = {}
+METHODS = {
+    ("stamps", "Stamps"): {"__init__": 1, "box": 0, "names": 0, "faces": 0, "face": 1, "done": 1},
+}
 
 
 class Interface(unittest.TestCase):
