@@ -62,6 +62,17 @@ def face_of(box, cells):
     return tuple(["".join(["o" if (x, y) in up else "." for x in range(box[0])]) for y in range(box[1])])
 
 
+def bits_of(face):
+    """A face as a number: a bit for each cell, the first cell the highest, so that numbers stand as the faces do."""
+    return int("".join(face).replace(".", "0").replace("o", "1"), 2)
+
+
+def face_of_bits(box, bits):
+    """The face of a box that a number stands for."""
+    signs = f"{bits:b}".replace("0", ".").replace("1", "o").rjust(box[0] * box[1], ".")
+    return tuple([signs[at * box[0]:(at + 1) * box[0]] for at in range(box[1])])
+
+
 def common(one, other):
     """The face of the cells that are up in both of two faces of one box."""
     up = {cell: True for cell in ups(other)}

@@ -8,11 +8,16 @@ from faceonface.turnings import turnings_of
 MOST_STAMPS = 6
 
 
-def are_stamps(thing):
-    """Whether a thing is a dict of one to six names with faces of one box."""
+def are_named_faces(thing):
+    """Whether a thing is a dict of one to six names with faces, of any boxes."""
     if not isinstance(thing, dict) or not 1 <= len(thing) <= MOST_STAMPS:
         return False
-    if not all([is_name(name) and is_face(thing[name]) for name in thing]):
+    return all([is_name(name) and is_face(thing[name]) for name in thing])
+
+
+def are_stamps(thing):
+    """Whether a thing is a dict of one to six names with faces of one box."""
+    if not are_named_faces(thing):
         return False
     boxes = [box_of(thing[name]) for name in thing]
     return all([box == boxes[0] for box in boxes])

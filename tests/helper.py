@@ -158,3 +158,187 @@ def cases(many, words=("press", "turn", "cut", "print"), least=1, length=12):
         faces = some_faces(chance, box, chance.randint(least, 6))
         told.append((box, faces, some_row(chance, box, faces, chance.randint(0, length), words)))
     return told
+
+
+def box_turnings(box):
+    """The turnings of a box, as [14] says."""
+    return TURNINGS if box[0] == box[1] else ["m0", "m2", "r0", "r2"]
+
+
+def orbit(box, face):
+    """The sets of up cells of a face turned in all ways."""
+    return [turned_cells(box, up_cells(face), turning) for turning in box_turnings(box)]
+
+
+def orbits(box, faces):
+    """The sets of up cells of some faces turned in all ways."""
+    return [cells for face in faces for cells in orbit(box, face)]
+
+
+class Span:
+    """All that comes of sets of cells by laying over one another, by a plain elimination of first cells."""
+
+    def __init__(self, sets):
+        self.by_first = {}
+        for cells in sets:
+            rest = self.rest(cells)
+            if rest:
+                self.by_first[min(rest)] = rest
+
+    def rest(self, cells):
+        rest = frozenset(cells)
+        while rest & self.by_first.keys():
+            rest ^= self.by_first[min(rest & self.by_first.keys())]
+        return rest
+
+    def has(self, cells):
+        return not self.rest(cells)
+
+    def doublings(self):
+        return len(self.by_first)
+
+
+def changes_plain(box, faces):
+    """The sets of cells of faces laid over themselves turned, for faces and all their turnings."""
+    return [cells ^ other for cells in orbits(box, faces) for other in orbit(box, drawn(box, cells))]
+
+
+def members_plain(box, faces):
+    """All members of the lot of some faces, sorted, by turning in all ways and laying over one another."""
+    members = {frozenset()}
+    for cells in orbits(box, sorted(set(faces))):
+        if frozenset(cells) not in members:
+            members |= {member ^ cells for member in members}
+    return sorted(drawn(box, member) for member in members)
+
+
+def over_plain(box, faces):
+    """Faces laid over one another, cell by cell."""
+    cells = set()
+    for face in faces:
+        cells ^= up_cells(face)
+    return drawn(box, cells)
+
+
+def even_plain(comb, face):
+    """Whether a comb is even on a face, by sets of cells."""
+    return len(up_cells(comb) & up_cells(face)) % 2 == 0
+
+
+def some_member(chance, box, faces):
+    """A face of the lot of some faces."""
+    return over_plain(box, [drawn(box, cells) for cells in orbits(box, faces) if chance.randint(0, 1)])
+
+
+def sparse_face(chance, box, most=3):
+    """A face of a box with few up cells, perhaps none."""
+    return drawn(box, chance.sample(cells_of(box), min(len(cells_of(box)), chance.randint(0, most))))
+
+
+def lot_cases(seed, boxes=None, most=60):
+    """Tuples (box, faces) of lots of none, one and several faces, dense and sparse, some alike or blank."""
+    chance = random.Random(seed)
+    told = []
+    for box in boxes or BOXES:
+        told.append((box, []))
+        told.append((box, [drawn(box, set())]))
+        told.append((box, [some_face(chance, box)]))
+        told.append((box, [sparse_face(chance, box)]))
+        told.append((box, [drawn(box, set(cells_of(box)))]))
+        few = [sparse_face(chance, box, 2) for _ in range(chance.randint(2, 3))]
+        told.append((box, [*few, drawn(box, set()), few[0]]))
+        told.append((box, [over_plain(box, [drawn(box, cells) for cells in orbit(box, some_face(chance, box))])]))
+        one = some_face(chance, box)
+        told.append((box, [some_member(chance, box, [one]) for _ in range(chance.randint(2, most))]))
+    if not boxes:
+        told.append(((6, 6), [some_face(chance, (6, 6)) for _ in range(most)]))
+        told.append(((6, 5), [sparse_face(chance, (6, 5)) for _ in range(most)]))
+    return told
+
+
+def box_of_faces(faces):
+    """The box of a dict of names with faces."""
+    first = next(iter(faces.values()))
+    return (len(first[0]), len(first))
+
+
+def doublings_plain(faces):
+    """How often the lot of all faces of a dict doubles, and how often its core does."""
+    box = box_of_faces(faces)
+    return (Span(orbits(box, faces.values())).doublings(), Span(changes_plain(box, faces.values())).doublings())
+
+
+def least_plain(faces):
+    """How many stamps are needed at least for a row, as [41] says."""
+    whole, core = doublings_plain(faces)
+    return max(3, whole - core + 1)
+
+
+def answer_plain(faces, wish):
+    """What answers a wish, as [41] says: ("comb", name), ("combs", many), ("few", many, least) or ("row", most)."""
+    box = box_of_faces(faces)
+    lot = Span(orbits(box, faces.values()))
+    for name in sorted(wish):
+        if not lot.has(up_cells(wish[name])):
+            return ("comb", name)
+    core = changes_plain(box, faces.values())
+    least_lot = Span(core + [up_cells(face) for face in wish.values()])
+    if lot.doublings() - least_lot.doublings() > len(faces) - len(wish):
+        return ("combs", lot.doublings() - least_lot.doublings())
+    if len(faces) < least_plain(faces):
+        return ("few", len(faces), least_plain(faces))
+    return ("row", 60 * len(faces) * (lot.doublings() + 1))
+
+
+def comb_holds(faces, wish, name, comb):
+    """Whether a comb is even on all turnings of all faces and odd on the wished one of this name, by counting."""
+    box = box_of_faces(faces)
+    even = all(even_plain(comb, drawn(box, cells)) for cells in orbits(box, faces.values()))
+    return even and not even_plain(comb, wish[name])
+
+
+def combs_hold(faces, wish, combs):
+    """Whether combs are as [41] says, by counting each of them and all that come of laying some over one another."""
+    box = box_of_faces(faces)
+    for comb in combs:
+        for face in faces.values():
+            if len({even_plain(comb, drawn(box, cells)) for cells in orbit(box, face)}) != 1:
+                return False
+        if not all(even_plain(comb, face) for face in wish.values()):
+            return False
+    for some in range(1, 2 ** len(combs)):
+        over = over_plain(box, [comb for at, comb in enumerate(combs) if some >> at & 1])
+        if all(even_plain(over, face) for face in faces.values()):
+            return False
+    return True
+
+
+def wished_face(chance, box, faces, own):
+    """A face to be wished for: a member of the lot, the own one, a blank one, one of the core, or any one."""
+    values = list(faces.values())
+    member = some_member(chance, box, values)
+    turned_one = turned_plain(member, chance.choice(box_turnings(box)))
+    return chance.choice([member, member, turned_one, own, drawn(box, set()), over_plain(box, [member, turned_one]),
+                          chance.choice(values), sparse_face(chance, box)])
+
+
+def wish_cases(seed, many, boxes=None, least=1):
+    """Tuples (faces, wish) of all sorts: of one to six stamps, for one, some and all of them."""
+    chance = random.Random(seed)
+    told = []
+    for at in range(many):
+        box = chance.choice(boxes or BOXES)
+        stamps = chance.randint(least, 6)
+        make = chance.choice([some_face, sparse_face])
+        base = [make(chance, box) for _ in range(chance.randint(0, stamps))]
+        faces = {name: some_member(chance, box, base) for name in some_faces(chance, box, stamps)}
+        if at % 10 == 0:
+            faces = {name: make(chance, box) for name in faces}
+        wished = chance.sample(sorted(faces), stamps if at % 3 == 0 else chance.randint(1, stamps))
+        wish = {name: wished_face(chance, box, faces, faces[name]) for name in wished}
+        if at % 12 == 1:
+            wish = {name: faces[name] for name in wished}
+        if at % 4 == 2:
+            wish = {name: some_member(chance, box, faces.values()) for name in wished}
+        told.append((faces, wish))
+    return told

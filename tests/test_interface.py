@@ -9,9 +9,13 @@ FUNCTIONS = {
     "turnings": {"both": 2, "undone": 1, "turnings_of": 1},
     "faces": {"blank": 1, "box_of": 1, "turned": 2, "laid": 2, "ups": 1, "face_of": 2, "is_even": 2},
     "rows": {"done_row": 2, "led_back": 2, "prints": 3, "shown": 2},
+    "lots": {"joined": 2, "met": 2, "alike": 2},
+    "wishes": {"answer": 2, "is_answer": 3},
 }
 METHODS = {
     ("stamps", "Stamps"): {"__init__": 1, "box": 0, "names": 0, "faces": 0, "face": 1, "done": 1},
+    ("lots", "Lot"): {"__init__": 2, "box": 0, "rows": 0, "doublings": 0, "has": 1, "core": 0, "still": 0, "against": 0,
+                      "layers": 0, "makers": 0, "member": 1, "number_of": 1, "comb": 1},
 }
 
 

@@ -1,0 +1,66 @@
+"""Sums of numbers bit by bit, two alike bits coming to nothing: laying over one another, reckoned with numbers."""
+
+
+def is_odd(number):
+    """Whether a number from 0 on has an odd number of bits that are 1."""
+    return f"{number:b}".count("1") % 2 == 1
+
+
+def reduced(rows, number):
+    """A number less what the rows take from it: 0 just where it is a sum of some of them.
+
+    Each row must be free of the highest bits of those ahead of it.
+    """
+    for row in rows:
+        # The lesser of the two is the one without the row's highest bit.
+        number = min(number, number ^ row)
+    return number
+
+
+def stairs(numbers):
+    """Rows with the same sums as the numbers, each free of the highest bits of those ahead of it."""
+    rows = []
+    for number in numbers:
+        rest = reduced(rows, number)
+        if rest:
+            rows.append(rest)
+    return rows
+
+
+def plain_rows(numbers):
+    """The rows with the same sums as the numbers, each free of the others' highest bits, the greatest first."""
+    rows = []
+    for row in sorted(stairs(numbers)):
+        rows.append(reduced(rows, row))
+    return rows[::-1]
+
+
+def fresh(rows, numbers):
+    """The places of the numbers that are no sum of some of the rows and of the numbers ahead of them."""
+    known = stairs(rows)
+    places = []
+    for at, number in enumerate(numbers):
+        rest = reduced(known, number)
+        if rest:
+            known.append(rest)
+            places.append(at)
+    return places
+
+
+def vanishing(pairs, size):
+    """The plain rows of what the pairs' second numbers, of so many bits, come to where the first ones come to 0."""
+    rows = plain_rows([(first << size) | second for first, second in pairs])
+    return [row for row in rows if row >> size == 0]
+
+
+def made_of(numbers, wanted):
+    """The places of numbers whose sum is the wanted one, which is such a sum; no more than the rows they come to."""
+    size = len(numbers)
+    rows = []
+    for at, number in enumerate(numbers):
+        # The low bits keep of which numbers a row is the sum.
+        rest = reduced(rows, (number << size) | (1 << at))
+        if rest >> size:
+            rows.append(rest)
+    kept = reduced(rows, wanted << size)
+    return [at for at in range(size) if (kept >> at) & 1]
