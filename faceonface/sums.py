@@ -64,3 +64,38 @@ def made_of(numbers, wanted):
             rows.append(rest)
     kept = reduced(rows, wanted << size)
     return [at for at in range(size) if (kept >> at) & 1]
+
+
+def sum_at(numbers, bits):
+    """The sum of the numbers at the places where a bit is 1, the lowest bit standing for the first place."""
+    total = 0
+    for at, number in enumerate(numbers):
+        if (bits >> at) & 1:
+            total ^= number
+    return total
+
+
+def product(one, other):
+    """Each row of the one a sum of rows of the other, at the places where its bits are 1."""
+    return [sum_at(other, row) for row in one]
+
+
+def power(rows, number):
+    """The product of so many times the same rows; there are as many of them as they have bits."""
+    told = [1 << at for at in range(len(rows))]
+    while number:
+        if number & 1:
+            told = product(told, rows)
+        rows = product(rows, rows)
+        number >>= 1
+    return told
+
+
+def inverse(rows):
+    """The rows that lead back: their product with these has in each row a 1 at its own place alone; None if none do."""
+    size = len(rows)
+    plain = plain_rows([(row << size) | (1 << at) for at, row in enumerate(rows)])
+    if plain[-1] >> size == 0:
+        return None
+    # All high bits are plain now, the last row's the lowest; the low bits say of which rows they are the sum.
+    return [row & ((1 << size) - 1) for row in plain[::-1]]

@@ -4,6 +4,7 @@ Nothing here imports the program, so that no fault of it can hide in what it is 
 """
 
 import copy
+import itertools
 import random
 
 TURNINGS = ["m0", "m1", "m2", "m3", "r0", "r1", "r2", "r3"]
@@ -342,3 +343,93 @@ def wish_cases(seed, many, boxes=None, least=1):
             wish = {name: some_member(chance, box, faces.values()) for name in wished}
         told.append((faces, wish))
     return told
+
+
+def reached(faces):
+    """All standings, as tuples of faces in the order of names, that presses and turns lead to."""
+    names = sorted(faces)
+    turns = ["r1"] if len(faces[names[0]]) == len(faces[names[0]][0]) else ["r2"]
+    deeds = [("press", *pair) for pair in itertools.permutations(names, 2)]
+    deeds += [("turn", name, turning) for name in names for turning in turns]
+    first = tuple(faces[name] for name in names)
+    known, fresh = {first}, [first]
+    while fresh:
+        standing = fresh.pop()
+        for deed in deeds:
+            behind = tuple(plain_row(dict(zip(names, standing)), [deed]).values())
+            if behind not in known:
+                known.add(behind)
+                fresh.append(behind)
+    return known
+
+
+def pairs_of_turnings():
+    """What the one turning, then the other is, of each two: the one that brings all cells where these two bring them."""
+    def ends(*turnings):
+        cells = []
+        for cell in cells_of((3, 3)):
+            for turning in turnings:
+                cell = moved((3, 3), cell, turning)[1]
+            cells.append(cell)
+        return cells
+    found = {tuple(ends(turning)): turning for turning in TURNINGS}
+    return {(one, other): found[tuple(ends(one, other))] for one in TURNINGS for other in TURNINGS}
+
+
+BOTH = pairs_of_turnings()
+
+
+def tidy(sets):
+    """A table, as [50] tells it, of dicts of sets of turnings."""
+    return {name: {other: tuple(sorted(sets[name][other])) for other in sorted(sets[name]) if sets[name][other]}
+            for name in sorted(sets)}
+
+
+def table_plain(names, row):
+    """The table of a row without cuts, word by word as [50] says it."""
+    sets = {name: {other: {"r0"} if other == name else set() for other in names} for name in names}
+    for deed in row:
+        if deed[0] == "turn":
+            sets[deed[1]] = {other: {BOTH[one, deed[2]] for one in sets[deed[1]][other]} for other in names}
+        if deed[0] == "press":
+            for other in names:
+                sets[deed[2]][other] = sets[deed[2]][other] ^ {BOTH[one, "m0"] for one in sets[deed[1]][other]}
+    return tidy(sets)
+
+
+def behind_plain(one, other):
+    """The table of one and another one behind it, turning by turning."""
+    sets = {name: {source: set() for source in one} for name in one}
+    for name in other:
+        for middle, laters in other[name].items():
+            for source, firsts in one[middle].items():
+                for first in firsts:
+                    for later in laters:
+                        sets[name][source] ^= {BOTH[first, later]}
+    return tidy(sets)
+
+
+def made_plain(table, faces):
+    """What a table makes of stamps, cell by cell."""
+    box = box_of_faces(faces)
+    return {name: over_plain(box, [turned_plain(faces[source], turning) for source in table[name]
+                                   for turning in table[name][source]]) for name in sorted(table)}
+
+
+def some_table(chance, box, names):
+    """Any table of a box and names, perhaps one that no table leads back from; the names in any order."""
+    thin = chance.choice([1, 2, 4])
+    table = {}
+    for name in chance.sample(names, len(names)):
+        table[name] = {}
+        for other in chance.sample(names, len(names)):
+            turnings = [turning for turning in box_turnings(box) if not chance.randint(0, thin)]
+            if turnings:
+                table[name][other] = tuple(turnings)
+    return table
+
+
+def is_led_back(table):
+    """Whether a table of truths, whether an odd number of turnings stands for two names, can be led back."""
+    rows = [{other for other in table[name] if len(table[name][other]) % 2} for name in table]
+    return Span(rows).doublings() == len(table)

@@ -11,6 +11,9 @@ FUNCTIONS = {
     "rows": {"done_row": 2, "led_back": 2, "prints": 3, "shown": 2},
     "lots": {"joined": 2, "met": 2, "alike": 2},
     "wishes": {"answer": 2, "is_answer": 3},
+    "counts": {"standings_many": 1, "some_many": 2},
+    "tables": {"is_table": 3, "table_of": 3, "behind": 3, "undone_table": 2, "many_times": 3, "made": 2},
+    "far": {"far": 3, "round_of": 2},
 }
 METHODS = {
     ("stamps", "Stamps"): {"__init__": 1, "box": 0, "names": 0, "faces": 0, "face": 1, "done": 1},

@@ -3,7 +3,7 @@
 import random
 import unittest
 
-from faceonface.sums import fresh, is_odd, made_of, plain_rows, reduced, stairs, vanishing
+from faceonface.sums import fresh, inverse, is_odd, made_of, plain_rows, power, product, reduced, stairs, vanishing
 
 
 def sums_of(numbers):
@@ -62,3 +62,39 @@ class Sums(unittest.TestCase):
                 for at in places:
                     total ^= numbers[at]
                 self.assertEqual(total, wanted)
+
+
+def squares(seed):
+    """Lists of as many rows as they have bits."""
+    chance = random.Random(seed)
+    return [[chance.randrange(2 ** size) for _ in range(size)] for size in range(1, 9) for _ in range(20)]
+
+
+def units(size):
+    return [1 << at for at in range(size)]
+
+
+class Products(unittest.TestCase):
+    def test_product(self):
+        self.assertEqual(product([0b01, 0b10, 0b11, 0b00], [5, 6]), [5, 6, 3, 0])
+        for rows in squares(8):
+            self.assertEqual(product(rows, units(len(rows))), rows)
+            self.assertEqual(product(units(len(rows)), rows), rows)
+
+    def test_power(self):
+        for rows in squares(9):
+            told = units(len(rows))
+            for number in range(10):
+                self.assertEqual(power(rows, number), told)
+                told = product(rows, told)
+
+    def test_inverse(self):
+        found = set()
+        for rows in squares(10):
+            back = inverse(rows)
+            found.add(back is None)
+            self.assertEqual(back is None, len(stairs(rows)) < len(rows))
+            if back is not None:
+                self.assertEqual(product(back, rows), units(len(rows)))
+                self.assertEqual(product(rows, back), units(len(rows)))
+        self.assertEqual(found, {True, False})

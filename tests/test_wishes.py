@@ -10,7 +10,7 @@ from faceonface.lots import Lot
 from faceonface.stamps import Stamps
 from faceonface.wishes import answer, is_answer
 from helper import (BOXES, answer_plain, box_of_faces, comb_holds, combs_hold, drawn, members_plain, odd_things,
-                    plain_row, same, snapshot, some_face, some_faces, some_member, some_row, sparse_face, turned_plain,
+                    plain_row, reached, same, snapshot, some_face, some_faces, some_member, some_row, sparse_face, turned_plain,
                     wish_cases)
 
 PRESS_AND_TURN = ("press", "turn")
@@ -23,24 +23,6 @@ def told_of(faces, wish):
         return answer(Stamps(faces), wish)
     except TooFew as refused:
         return ("few", refused.many, refused.least)
-
-
-def reached(faces):
-    """All standings, as tuples of faces in the order of names, that presses and turns lead to."""
-    names = sorted(faces)
-    turns = ["r1"] if len(faces[names[0]]) == len(faces[names[0]][0]) else ["r2"]
-    deeds = [("press", *pair) for pair in itertools.permutations(names, 2)]
-    deeds += [("turn", name, turning) for name in names for turning in turns]
-    first = tuple(faces[name] for name in names)
-    known, fresh = {first}, [first]
-    while fresh:
-        standing = fresh.pop()
-        for deed in deeds:
-            behind = tuple(plain_row(dict(zip(names, standing)), [deed]).values())
-            if behind not in known:
-                known.add(behind)
-                fresh.append(behind)
-    return known
 
 
 class Checked(unittest.TestCase):
