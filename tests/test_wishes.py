@@ -106,6 +106,11 @@ class Answers(Checked):
         self.assertEqual(told_of({"a": (".",)}, {"a": (".",)}), ("few", 1, 3))
         self.assertEqual(told_of(APART, APART), ("few", 3, 4))
 
+    def test_a_met_wish_needs_no_deeds(self):
+        for faces, _ in wish_cases(105, 60, least=3):
+            if answer_plain(faces, faces)[0] == "row":
+                self.assertEqual(answer(Stamps(faces), faces), ("row", []))
+
     def test_no_row_of_three_apart(self):
         """[42] The wish that the document names."""
         wish = {**APART, "a": (".....o", "......")}
