@@ -1,5 +1,6 @@
 """Faces: turned, laid over one another, and read cell by cell."""
 
+from faceonface.kinds import is_face
 from faceonface.turnings import is_exchanging, quarters_of
 
 
@@ -11,6 +12,11 @@ def blank(box):
 def box_of(face):
     """The box of a face."""
     return (len(face[0]), len(face))
+
+
+def is_face_of(box, thing):
+    """Whether a thing is a face of the box."""
+    return is_face(thing) and box_of(thing) == box
 
 
 def exchanged(face):

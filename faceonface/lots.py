@@ -1,9 +1,9 @@
 """Lots: all that comes of some faces by turning them and laying them over one another."""
 
 from faceonface.errors import NoNumber, Unlike, Wrong
-from faceonface.faces import bits_of, box_of, face_of_bits, turned
-from faceonface.kinds import is_box, is_face
-from faceonface.sums import fresh, is_odd, plain_rows, reduced, vanishing
+from faceonface.faces import bits_of, box_of, face_of_bits, is_face_of, turned
+from faceonface.kinds import is_box
+from faceonface.sums import evens, fresh, is_odd, plain_rows, reduced, vanishing
 from faceonface.turnings import turnings_of
 
 MOST_FACES = 60
@@ -13,7 +13,7 @@ def are_faces_of(box, thing):
     """Whether a thing is a list of at most 60 faces of a box."""
     if not isinstance(thing, list) or len(thing) > MOST_FACES:
         return False
-    return all([is_face(face) and box_of(face) == box for face in thing])
+    return all([is_face_of(box, face) for face in thing])
 
 
 def all_turned(box, face):
@@ -89,14 +89,7 @@ class Lot:
 
     def against(self):
         """The lot of the combs that are even on each member."""
-        size = self.shape[0] * self.shape[1]
-        pairs = []
-        for at in range(size):
-            met_by = 0
-            for row in self.basis:
-                met_by = (met_by << 1) | ((row >> at) & 1)
-            pairs.append((met_by, 1 << at))
-        return lot_of(self.shape, vanishing(pairs, size))
+        return lot_of(self.shape, evens(self.basis, self.shape[0] * self.shape[1]))
 
     def makers(self):
         """As few faces as can be of which it is the lot."""

@@ -53,6 +53,17 @@ def vanishing(pairs, size):
     return [row for row in rows if row >> size == 0]
 
 
+def evens(rows, size):
+    """The plain rows of the numbers, of so many bits, that have an even number of bits in common with each row."""
+    pairs = []
+    for at in range(size):
+        met_by = 0
+        for row in rows:
+            met_by = (met_by << 1) | ((row >> at) & 1)
+        pairs.append((met_by, 1 << at))
+    return vanishing(pairs, size)
+
+
 def made_of(numbers, wanted):
     """The places of numbers whose sum is the wanted one, which is such a sum; no more than the rows they come to."""
     size = len(numbers)

@@ -1,8 +1,8 @@
 """Wishes for faces: answered with a row of presses and turns, or with combs that say never."""
 
 from faceonface.errors import NoName, Stopped, TooFew, Unfit, Wrong
-from faceonface.faces import bits_of, box_of, is_even
-from faceonface.kinds import is_deed, is_face, is_name
+from faceonface.faces import bits_of, box_of, is_even, is_face_of
+from faceonface.kinds import is_deed, is_name
 from faceonface.lots import Lot, all_turned, fresh_over, joined
 from faceonface.rows import done_row
 from faceonface.stamps import Stamps, are_named_faces
@@ -108,11 +108,6 @@ def is_row_shown(stamps, wish, row):
         return False
 
 
-def is_comb_of(box, thing):
-    """Whether a thing is a comb of the box."""
-    return is_face(thing) and box_of(thing) == box
-
-
 def parities(stamps, name, comb):
     """Whether the comb is odd on the face of a stamp, for each turning of it."""
     return [is_odd(number & bits_of(comb)) for number in all_turned(stamps.box(), stamps.face(name))]
@@ -120,7 +115,7 @@ def parities(stamps, name, comb):
 
 def is_comb_shown(stamps, wish, name, comb):
     """Whether a comb is even on all turnings of all faces, and odd on the wished face of this name."""
-    if not is_name(name) or name not in wish or not is_comb_of(stamps.box(), comb):
+    if not is_name(name) or name not in wish or not is_face_of(stamps.box(), comb):
         return False
     if any([any(parities(stamps, other, comb)) for other in stamps.names()]):
         return False
@@ -149,6 +144,6 @@ def are_combs_shown(stamps, wish, combs):
     if not isinstance(combs, list) or not len(free_names(stamps, wish)) < len(combs) <= len(stamps.names()):
         # More of them than stamps are never unlike in earnest, so they need not be looked at.
         return False
-    if not all([is_comb_of(stamps.box(), comb) and is_comb_steady(stamps, wish, comb) for comb in combs]):
+    if not all([is_face_of(stamps.box(), comb) and is_comb_steady(stamps, wish, comb) for comb in combs]):
         return False
     return len(stairs([odd_names(stamps, comb) for comb in combs])) == len(combs)

@@ -57,6 +57,15 @@ def same(one, other):
     return one == other
 
 
+def refusal(asked, *things, **named):
+    """The name of the refusal that a call is refused with, and its fields; None where something is told."""
+    try:
+        asked(*things, **named)
+    except ValueError as error:
+        return (type(error).__name__, vars(error))
+    return None
+
+
 def cells_of(box):
     """All cells of a box, in their order."""
     return [(x, y) for y in range(box[1]) for x in range(box[0])]
@@ -70,6 +79,17 @@ def up_cells(face):
 def drawn(box, cells):
     """The face of a box that has just these cells up."""
     return tuple("".join("o" if (x, y) in cells else "." for x in range(box[0])) for y in range(box[1]))
+
+
+def all_faces(box):
+    """Every face of a box of few cells, sorted."""
+    cells = cells_of(box)
+    return sorted(drawn(box, set(some)) for many in range(len(cells) + 1) for some in itertools.combinations(cells, many))
+
+
+def all_standings(box, names):
+    """Every dict of the names with faces of a box of few cells."""
+    return [dict(zip(names, faces)) for faces in itertools.product(all_faces(box), repeat=len(names))]
 
 
 def moved(box, cell, turning):
@@ -148,6 +168,22 @@ def plain_row(faces, row):
     for deed in row:
         standing = plain_deed(box, standing, deed)
     return {name: drawn(box, standing[name]) for name in sorted(standing)}
+
+
+def shown_plain(face, pane):
+    """What a print shows, by sets of cells."""
+    return drawn((len(face[0]), len(face)), up_cells(turned_plain(face, "m0")) & up_cells(pane))
+
+
+def prints_plain(faces, row, panes):
+    """What the prints of a row show, cell by cell."""
+    box = box_of_faces(faces)
+    told = []
+    for deed in row:
+        if deed[0] == "print":
+            told.append(shown_plain(faces[deed[1]], panes.get(deed[1], drawn(box, set()))))
+        faces = plain_row(faces, [deed])
+    return told
 
 
 def cases(many, words=("press", "turn", "cut", "print"), least=1, length=12):
@@ -433,3 +469,118 @@ def is_led_back(table):
     """Whether a table of truths, whether an odd number of turnings stands for two names, can be led back."""
     rows = [{other for other in table[name] if len(table[name][other]) % 2} for name in table]
     return Span(rows).doublings() == len(table)
+
+
+def some_web(chance, box, names):
+    """The presses, turns and panes of a web, by their names: some told twice, in any order, perhaps none."""
+    thin = chance.choice([0, 1, 1, 2, 4])
+    pairs = [pair for pair in itertools.permutations(names, 2) if not chance.randint(0, thin)]
+    turnings = ["r1", "r2", "r3"] if box[0] == box[1] else ["r2"]
+    turns = [pair for pair in itertools.product(names, turnings) if not chance.randint(0, thin)]
+    make = chance.choice([some_face, sparse_face, sparse_face])
+    panes = {name: make(chance, box) for name in names if chance.randint(0, 2)}
+    twice = {"presses": pairs + pairs[:3], "turns": turns + turns[:2]}
+    return {**{word: chance.sample(told, len(told)) for word, told in twice.items()}, "panes": panes}
+
+
+def web_cases(seed, many, boxes, most):
+    """Tuples (box, names, web) of one name and more, in any order, with at most so many cells in all."""
+    chance = random.Random(seed)
+    told = []
+    while len(told) < many:
+        box = chance.choice(boxes)
+        names = chance.sample(["a", "b", "cc", "deed", "echo", "z"], chance.randint(1, 6))
+        if len(names) * len(cells_of(box)) <= most:
+            told.append((box, names, some_web(chance, box, names)))
+    return told
+
+
+def moves_plain(web):
+    """The presses and turns of a web as deeds, in the order that [80] tells."""
+    presses = [("press", *pair) for pair in sorted(set(web["presses"]))]
+    return presses + [("turn", *pair) for pair in sorted(set(web["turns"]))]
+
+
+def spread(sheet):
+    """The up cells of a sheet as a set of (name, y, x), which stand as they do where it is read as one face."""
+    return {(name, y, x) for name in sheet for x, y in up_cells(sheet[name])}
+
+
+def sheet_of(box, names, cells):
+    """The sheet of a box and names that has just these (name, y, x) up."""
+    return {name: drawn(box, {(x, y) for other, y, x in cells if other == name}) for name in sorted(names)}
+
+
+def are_plain_rows(sheets):
+    """Whether the first up cell of each sheet is flat in all the others, and they stand in the order of these cells."""
+    spreads = [spread(sheet) for sheet in sheets]
+    if not all(spreads):
+        return False
+    firsts = [min(cells) for cells in spreads]
+    return firsts == sorted(firsts) and all(cells & set(firsts) == {min(cells)} for cells in spreads)
+
+
+class Units:
+    """What a web sees, by what its deeds make of standings that have one up cell in all; cells are (name, y, x)."""
+
+    def __init__(self, box, names, web):
+        self.box, self.names = box, sorted(names)
+        self.moves = moves_plain(web)
+        self.all = [(name, y, x) for name in self.names for x, y in cells_of(box)]
+        self.images = {deed: {unit: self.behind(unit, deed) for unit in self.all} for deed in self.moves}
+        self.printed = [{(name, y, box[0] - 1 - x)} for name in web["panes"] for x, y in up_cells(web["panes"][name])]
+
+    def behind(self, unit, deed):
+        """The up cells behind a deed of the standing that has just this one up."""
+        standing = {name: {(x, y) for other, y, x in [unit] if other == name} for name in self.names}
+        behind = plain_deed(self.box, standing, deed)
+        return {(name, y, x) for name in behind for x, y in behind[name]}
+
+    def ahead(self, cells, deed):
+        """The cells that make, each by itself, an odd number of some cells up behind a deed."""
+        return {unit for unit in self.all if len(self.images[deed][unit] & cells) % 2}
+
+    def seen(self):
+        """Lists of sets of cells: what prints show at once, behind one deed more, and so on, till nothing is new."""
+        steps, known = [self.printed], Span(self.printed)
+        while True:
+            fresh = [self.ahead(cells, deed) for cells in steps[-1] for deed in self.moves]
+            kept = []
+            for cells in fresh:
+                rest = known.rest(cells)
+                if rest:
+                    known.by_first[min(rest)] = rest
+                    kept.append(cells)
+            if not kept:
+                return steps
+            steps.append(kept)
+
+    def fewest(self, cells):
+        """Of how many deeds the shortest row is whose prints tell such a difference; None where there is none."""
+        for at, step in enumerate(self.seen()):
+            if any(len(sheet & cells) % 2 for sheet in step):
+                return at + 1
+        return None
+
+    def holds(self, cells, sheets):
+        """Whether sheets are a paper that Stamps of such a difference are alike, clause by clause as [62] says it."""
+        sets = [spread(sheet) for sheet in sheets]
+        span = Span(sets)
+        if not all(span.has(wanted) for wanted in self.printed):
+            return False
+        if not all(span.has(self.ahead(sheet, deed)) for sheet in sets for deed in self.moves):
+            return False
+        return not any(len(sheet & cells) % 2 for sheet in sets)
+
+
+def differing(one, other):
+    """The cells (name, y, x) in which two dicts of names with faces differ."""
+    return spread(one) ^ spread(other)
+
+
+def some_pair(chance, box, names):
+    """Two dicts of names with faces: the same, unlike in one cell or in few ones, or any."""
+    one = {name: some_face(chance, box) for name in names}
+    cells = [(name, y, x) for name in names for x, y in cells_of(box)]
+    many = min(len(cells), chance.choice([0, 1, 1, 1, 2, 3, len(cells) // 2]))
+    return one, sheet_of(box, names, spread(one) ^ set(chance.sample(cells, many)))

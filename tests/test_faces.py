@@ -6,7 +6,7 @@ import unittest
 
 from faceonface.faces import blank, box_of, face_of, is_even, laid, turned, ups
 from faceonface.turnings import both, turnings_of, undone
-from helper import BOXES, TURNINGS, cells_of, drawn, moved, some_face, turned_plain, up_cells
+from helper import BOXES, TURNINGS, all_faces, cells_of, drawn, moved, some_face, turned_plain, up_cells
 
 
 def tried_faces(seed):
@@ -16,12 +16,6 @@ def tried_faces(seed):
     for box in BOXES:
         told += [drawn(box, set()), drawn(box, set(cells_of(box)))] + [some_face(chance, box) for _ in range(4)]
     return told
-
-
-def all_faces(box):
-    """Every face of a small box."""
-    cells = cells_of(box)
-    return [drawn(box, set(some)) for many in range(len(cells) + 1) for some in itertools.combinations(cells, many)]
 
 
 class Turned(unittest.TestCase):

@@ -7,9 +7,9 @@ import unittest
 from faceonface.errors import NoNumber, Unlike, Wrong
 from faceonface.kinds import is_box, is_face
 from faceonface.lots import Lot, alike, joined, met
-from helper import (BOXES, Plain, Span, box_turnings, cells_of, changes_plain, deep, drawn, even_plain, lot_cases,
-                    members_plain, odd_things, orbits, over_plain, same, snapshot, some_face, some_member, sparse_face,
-                    turned_plain, up_cells)
+from helper import (BOXES, Plain, Span, all_faces, box_turnings, changes_plain, deep, drawn, even_plain,
+                    lot_cases, members_plain, odd_things, orbits, over_plain, same, snapshot, some_face, some_member,
+                    sparse_face, turned_plain, up_cells)
 
 FEW = [box for box in BOXES if box[0] * box[1] <= 6]
 SQUARE_FREE = ((".o..", "....", "....", "...."),)
@@ -17,12 +17,6 @@ SQUARE_FREE = ((".o..", "....", "....", "...."),)
 
 def blank(box):
     return drawn(box, set())
-
-
-def all_faces(box):
-    cells = cells_of(box)
-    for signs in itertools.product((False, True), repeat=len(cells)):
-        yield drawn(box, {cell for cell, up in zip(cells, signs) if up})
 
 
 def first_up(face):

@@ -7,26 +7,11 @@ from faceonface.errors import Stopped
 from faceonface.faces import blank
 from faceonface.rows import done_row, led_back, prints, shown
 from faceonface.stamps import Stamps
-from helper import BOXES, cases, drawn, plain_row, some_face, some_faces, some_row, turned_plain, up_cells
+from helper import BOXES, cases, plain_row, prints_plain, shown_plain, some_face, some_faces, some_row, turned_plain
 
 FACES = {"b": ("..o", "o..", "..."), "a": ("oo.", "...", "..o")}
 ALL_SORTS = [("press", "a", "b"), ("turn", "b", "r1"), ("print", "b"), ("cut", "a", ("ooo", ".o.", "...")),
              ("press", "b", "a"), ("turn", "a", "r2"), ("print", "a"), ("turn", "b", "r3")]
-
-
-def shown_plain(face, pane):
-    """What a print shows, by sets of cells."""
-    return drawn((len(face[0]), len(face)), up_cells(turned_plain(face, "m0")) & up_cells(pane))
-
-
-def prints_plain(faces, row, panes):
-    """What the prints of a row show, each reckoned from the beginning."""
-    told = []
-    for at, deed in enumerate(row):
-        if deed[0] == "print":
-            face = plain_row(faces, row[:at])[deed[1]]
-            told.append(shown_plain(face, panes.get(deed[1], drawn((len(face[0]), len(face)), set()))))
-    return told
 
 
 def led_back_plain(faces, row):
