@@ -3,7 +3,7 @@
 from faceonface.errors import NoNumber, Unlike, Wrong
 from faceonface.faces import bits_of, box_of, face_of_bits, is_face_of, turned
 from faceonface.kinds import is_box
-from faceonface.sums import evens, fresh, is_odd, plain_rows, reduced, vanishing
+from faceonface.sums import between, evens, fresh, plain_rows, reduced, vanishing
 from faceonface.turnings import turnings_of
 
 MOST_FACES = 60
@@ -121,11 +121,9 @@ class Lot:
 
     def comb(self, face):
         """A comb that is even on all members and odd on the face; None of a member."""
-        bits = bits_of(face)
-        for comb in self.against().basis:
-            if is_odd(comb & bits):
-                return face_of_bits(self.shape, comb)
-        return None
+        if self.has(face):
+            return None
+        return face_of_bits(self.shape, between(self.basis, bits_of(face)))
 
 
 def refuse_unlike(one, other):

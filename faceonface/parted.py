@@ -59,24 +59,24 @@ def difference(web, one, other):
 
 def apart(web, one, other):
     """A row of the fewest deeds whose prints tell two Stamps apart, or sheets that show that there is none."""
-    between = difference(web, one, other)
+    changed = difference(web, one, other)
     told = seen(web)
     for bits, row in told:
-        if is_odd(bits & between):
+        if is_odd(bits & changed):
             return ("row", row)
     return ("alike", sheets_of_rows(web.box(), web.names(), plain_rows([bits for bits, row in told])))
 
 
 def is_alike(web, one, other, thing):
     """Whether a thing, whatever it is, is a paper that two Stamps are alike by the web."""
-    between = difference(web, one, other)
+    changed = difference(web, one, other)
     box = web.box()
     names = web.names()
     if not isinstance(thing, list) or not all([is_sheet(box, names, sheet) for sheet in thing]):
         return False
     # What holds of these rows holds of all that comes of them, so of each sheet of the list.
     rows = stairs([bits_of_sheet(sheet) for sheet in thing])
-    if any([is_odd(row & between) for row in rows]):
+    if any([is_odd(row & changed) for row in rows]):
         return False
     wanted = [sheet for name, sheet in printed_sheets(web)]
     for row in rows:

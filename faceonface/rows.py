@@ -58,13 +58,16 @@ def print_of(faces, box, name, panes):
     return shown(faces[name], panes[name])
 
 
-def prints(stamps, row, panes):
-    """What the prints of a row show, in order."""
-    box = stamps.box()
-    faces = stamps.faces()
+def prints_from(faces, box, row, panes):
+    """What the prints of a row show that is done to faces of a box, in order."""
     told = []
     for at, deed in enumerate(row):
         faces = step(faces, box, at, deed)
         if deed[0] == "print":
             told.append(print_of(faces, box, deed[1], panes))
     return told
+
+
+def prints(stamps, row, panes):
+    """What the prints of a row show, in order."""
+    return prints_from(stamps.faces(), stamps.box(), row, panes)

@@ -37,14 +37,15 @@ def bits_of_sheet(sheet):
     return bits_of_faces([sheet[name] for name in sorted(sheet)])
 
 
+def faces_of_bits(box, many, bits):
+    """So many faces of a box, one behind another, that a number stands for."""
+    size = cells_in(box)
+    return [face_of_bits(box, (bits >> (size * at)) & ((1 << size) - 1)) for at in range(many - 1, -1, -1)]
+
+
 def sheet_of_bits(box, names, bits):
     """The sheet of a box and names that a number stands for."""
-    size = cells_in(box)
-    sheet = {}
-    for at, name in enumerate(sorted(names)):
-        rest = bits >> (size * (len(names) - 1 - at))
-        sheet[name] = face_of_bits(box, rest & ((1 << size) - 1))
-    return sheet
+    return dict(zip(sorted(names), faces_of_bits(box, len(names), bits)))
 
 
 def sheets_of_rows(box, names, rows):

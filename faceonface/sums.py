@@ -64,6 +64,20 @@ def evens(rows, size):
     return vanishing(pairs, size)
 
 
+def between(rows, number):
+    """A number with an even number of bits in common with each of the plain rows and an odd one with this number.
+
+    The number must be no sum of the rows.
+    """
+    first = reduced(rows, number).bit_length() - 1
+    told = 1 << first
+    for row in rows:
+        # A row that has this bit is made even by its own highest one, which the others and the rest have not.
+        if (row >> first) & 1:
+            told |= 1 << (row.bit_length() - 1)
+    return told
+
+
 def made_of(numbers, wanted):
     """The places of numbers whose sum is the wanted one, which is such a sum; no more than the rows they come to."""
     size = len(numbers)

@@ -41,9 +41,9 @@ def refuse_wish(stamps, wish):
             raise Unfit()
 
 
-def is_met(stamps, wish):
+def is_met(faces, wish):
     """Whether each named stamp has its wished face."""
-    return all([stamps.face(name) == wish[name] for name in wish])
+    return all([faces[name] == wish[name] for name in wish])
 
 
 def free_names(stamps, wish):
@@ -80,7 +80,7 @@ def answer(stamps, wish):
     if lot.doublings() - reach.doublings() > len(free_names(stamps, wish)):
         return ("combs", combs_over(reach, lot))
     refuse_few(stamps, lot, core)
-    if is_met(stamps, wish):
+    if is_met(stamps.faces(), wish):
         return ("row", [])
     return ("row", row_to(stamps, core, wish, goals_of(stamps, wish, lot, core, reach)))
 
@@ -103,7 +103,7 @@ def is_row_shown(stamps, wish, row):
     if not all([is_deed(deed) and deed[0] in ("press", "turn") for deed in row]):
         return False
     try:
-        return is_met(done_row(stamps, row), wish)
+        return is_met(done_row(stamps, row).faces(), wish)
     except Stopped:
         return False
 

@@ -16,16 +16,26 @@ FUNCTIONS = {
     "tables": {"is_table": 3, "table_of": 3, "behind": 3, "undone_table": 2, "many_times": 3, "made": 2},
     "far": {"far": 3, "round_of": 2},
     "parted": {"apart": 3, "is_alike": 4, "sheet_ahead": 2, "unseen": 1},
+    "stories": {"agree": 4, "agree_many": 4, "agreeing": 5, "sure": 4, "is_clash": 5},
+    "prices": {"standings": 2, "prices": 3, "fewest": 3, "is_fair": 4},
+    "texts": {"show_face": 1, "show_deed": 1, "show_row": 1, "show_stamps": 1, "read_face": 1, "read_deed": 1, "read_row": 1,
+              "read_stamps": 1},
 }
 METHODS = {
     ("stamps", "Stamps"): {"__init__": 1, "box": 0, "names": 0, "faces": 0, "face": 1, "done": 1},
     ("lots", "Lot"): {"__init__": 2, "box": 0, "rows": 0, "doublings": 0, "has": 1, "core": 0, "still": 0, "against": 0,
                       "layers": 0, "makers": 0, "member": 1, "number_of": 1, "comb": 1},
     ("webs", "Web"): {"__init__": 2, "box": 0, "names": 0, "presses": 0, "turns": 0, "panes": 0},
+    ("books", "Book"): {"__init__": 1, "do": 1, "put": 2, "slip": 2, "take": 1, "back": 0, "again": 0, "row": 0, "length": 0,
+                        "standing": 1, "healed": 2, "tried": 1, "stamps": 0, "copied": 0},
 }
 # What stands behind a `*`, by name, with what it is where it is left out.
 BY_NAME = {
     ("webs", "Web", "__init__"): {"presses": NONE, "turns": NONE, "panes": NONE},
+    ("prices", "standings"): {"most": 600},
+    ("prices", "prices"): {"most": 600, "press": 1, "turn": 0},
+    ("prices", "fewest"): {"most": 600, "press": 1, "turn": 0},
+    ("prices", "is_fair"): {"press": 1, "turn": 0},
 }
 
 
