@@ -15,7 +15,7 @@ def is_place(thing):
 
 def is_doing(thing):
     """Whether a thing is a tuple of the word of a doing and what it is done with."""
-    if not isinstance(thing, tuple) or len(thing) not in (2, 3) or not isinstance(thing[0], str):
+    if not isinstance(thing, tuple) or len(thing) not in (2, 3):
         return False
     if len(thing) == 3:
         return thing[0] in ("put", "slip") and is_place(thing[1]) and is_deed(thing[2])
@@ -31,8 +31,10 @@ def are_doings(thing):
 
 def otherwise(ahead, behind):
     """Tuples (number, name) where faces are unlike in standings that there are in both lists, sorted."""
-    pairs = list(zip(ahead, behind))
-    return [(at, name) for at, (one, other) in enumerate(pairs) for name in one if one[name] != other[name]]
+    told = []
+    for at, (one, other) in enumerate(zip(ahead, behind)):
+        told.extend([(at, name) for name in one if one[name] != other[name]])
+    return told
 
 
 def do_to(book, doing):

@@ -25,7 +25,7 @@ def show_row(row):
 def show_stamps(stamps):
     """Stamps as a text, a row for each."""
     faces = stamps.faces()
-    return "".join([f"{name} {show_face(faces[name])}\n" for name in faces])
+    return "".join([name + " " + show_face(faces[name]) + "\n" for name in faces])
 
 
 def refuse_no_text(thing):

@@ -186,6 +186,12 @@ def prints_plain(faces, row, panes):
     return told
 
 
+def story_of(row, shown):
+    """The story of a row of deeds and of what its prints show."""
+    shown = iter(shown)
+    return [(deed, next(shown) if deed[0] == "print" else None) for deed in row]
+
+
 def cases(many, words=("press", "turn", "cut", "print"), least=1, length=12):
     """Many tuples (box, faces, row) of all sorts, the same ones at each run."""
     chance = random.Random(2026)
@@ -483,16 +489,20 @@ def some_web(chance, box, names):
     return {**{word: chance.sample(told, len(told)) for word, told in twice.items()}, "panes": panes}
 
 
-def web_cases(seed, many, boxes, most):
-    """Tuples (box, names, web) of one name and more, in any order, with at most so many cells in all."""
-    chance = random.Random(seed)
-    told = []
-    while len(told) < many:
+def some_size(chance, boxes, most):
+    """A box and some names in any order, with at most so many cells in all."""
+    while True:
         box = chance.choice(boxes)
         names = chance.sample(["a", "b", "cc", "deed", "echo", "z"], chance.randint(1, 6))
         if len(names) * len(cells_of(box)) <= most:
-            told.append((box, names, some_web(chance, box, names)))
-    return told
+            return box, names
+
+
+def web_cases(seed, many, boxes, most):
+    """Tuples (box, names, web) of one name and more, in any order, with at most so many cells in all."""
+    chance = random.Random(seed)
+    sizes = [some_size(chance, boxes, most) for _ in range(many)]
+    return [(box, names, some_web(chance, box, names)) for box, names in sizes]
 
 
 def moves_plain(web):

@@ -523,7 +523,8 @@ class Tried(Checked):
                        [("put", 0)], [("put", PRESS, 0)], [("put", -1, PRESS)], [("slip", True, PRESS)], [("take", -1)], [("take", False)],
                        [("take", 0, PRESS)], [("back",)], [("again",)], [("Do", PRESS)], [("healed", 0, PRESS)], [good, None], [()],
                        [("take",)], [("slip", "0", PRESS)], [("put", 0, ("press", "a", "a"))], [good] * 300, [[good]], good,
-                       [("take", 9), ("do", None)], [(b"do", PRESS)], deep(list, good), [deep(tuple, good)]):
+                       [("take", 9), ("do", None)], [("take", 9), ("put", -1, PRESS)], [("take", 9), ("slip", True, PRESS)],
+                       [("take", 9), ("take", -1)], [("take", 9), ("put", 0, None)], [("take", 9), ("back",)], [(b"do", PRESS)], deep(list, good), [deep(tuple, good)]):
             self.assertEqual(refusal(book.tried, doings), ("Wrong", {"at": 0}))
         self.assertEqual((all_of(book), history(book)), (ahead, behind))
         self.assertEqual(book.tried([good] * 8), book.standing(1).faces())

@@ -393,6 +393,8 @@ class Fair(unittest.TestCase):
         self.assertFalse(self.tell([(FACES, None)], web=still, wish={"a": ("o.",)}))
         for price in (0, 1, 10 ** 30, None):
             self.assertTrue(self.tell([(FACES, price)], web=still, wish={"a": ("oo",)}))
+        for price in (-1, -(10 ** 30), True, False, "0", (0,)):
+            self.assertFalse(self.tell([(FACES, price)], web=still, wish={"a": ("oo",)}))
 
     def test_none_is_above_all_numbers(self):
         web = {"presses": [("a", "b")], "turns": [], "panes": {}}

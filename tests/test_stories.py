@@ -6,12 +6,13 @@ import unittest
 
 from faceonface.stories import agree, agree_many, agreeing, is_clash, sure
 from helper import (BOXES, Span, all_standings, are_plain_rows, cells_of, deep, drawn, odd_things, over_plain, plain_row,
-                    prints_plain, refusal, same, sheet_of, snapshot, some_face, some_row, sparse_face, spread, up_cells)
+                    prints_plain, refusal, same, sheet_of, snapshot, some_face, some_row, some_size, sparse_face, spread,
+                    story_of, up_cells)
 
 FEW = [box for box in BOXES if box[0] * box[1] <= 4]
 WORDS = ("press", "press", "turn", "print", "print", "print", "cut")
 GREAT = [((5, 4), "dcba"), ((4, 5), "abcd"), ((4, 4), "edcba"), ((1, 1), "abcdef")]
-TOO_GREAT = [((6, 5), "abc"), ((5, 3), "abcdef"), ((6, 3), "abcde"), ((4, 4), "abcdef"), ((6, 6), "abc")]
+TOO_GREAT = [((6, 5), "abc"), ((5, 3), "abcdef"), ((6, 3), "abcde"), ((4, 4), "abcdef"), ((6, 6), "abc"), ((4, 3), "abcdefg")]
 
 # One stamp, of which the left cell is printed, turned, and printed again.
 PANES = {"a": (".o",)}
@@ -25,12 +26,6 @@ def row_of(story):
 
 def shown_in(story):
     return [shown for deed, shown in story if deed[0] == "print"]
-
-
-def told_story(row, shown):
-    """The story of a row of deeds and what its prints show."""
-    shown = iter(shown)
-    return [(deed, next(shown) if deed[0] == "print" else None) for deed in row]
 
 
 def spoilt(chance, story, panes):
@@ -49,16 +44,14 @@ def story_cases(seed, many, boxes, most, length=20, words=WORDS):
     """Tuples (box, names, panes, story): each other one told from a beginning, the others spoilt."""
     chance = random.Random(seed)
     told = []
-    while len(told) < many:
-        box = chance.choice(boxes)
-        names = chance.sample(["a", "b", "cc", "deed", "echo", "z"], chance.randint(1, 6))
-        if len(names) * len(cells_of(box)) <= most:
-            make = chance.choice([some_face, some_face, sparse_face])
-            panes = {name: make(chance, box) for name in [*names, "other"] if chance.randint(0, 4)}
-            row = some_row(chance, box, names, chance.randint(0, length), words)
-            beginning = {name: some_face(chance, box) for name in names}
-            story = told_story(row, prints_plain(beginning, row, panes))
-            told.append((box, names, panes, spoilt(chance, story, panes) if len(told) % 2 else story))
+    for at in range(many):
+        box, names = some_size(chance, boxes, most)
+        make = chance.choice([some_face, some_face, sparse_face])
+        panes = {name: make(chance, box) for name in [*names, "other"] if chance.randint(0, 4)}
+        row = some_row(chance, box, names, chance.randint(0, length), words)
+        beginning = {name: some_face(chance, box) for name in names}
+        story = story_of(row, prints_plain(beginning, row, panes))
+        told.append((box, names, panes, spoilt(chance, story, panes) if at % 2 else story))
     return told
 
 
@@ -209,7 +202,7 @@ class Agree(Checked):
                 row = some_row(chance, box, names, 60, WORDS if at % 2 else ("press", "turn", "print", "print"))
                 panes = {name: some_face(chance, box) for name in names[at % 2:]}
                 beginning = {name: some_face(chance, box) for name in names}
-                story = told_story(row, prints_plain(beginning, row, panes))
+                story = story_of(row, prints_plain(beginning, row, panes))
                 story = spoilt(chance, story, panes) if at > 1 else story
                 found.append(self.check_many_cells(box, list(names), panes, story)[0])
         self.assertEqual(set(found), {"some", "clash"})
@@ -257,7 +250,7 @@ class Numbered(Checked):
             panes = {names[0]: some_face(chance, box)}
             row = some_row(chance, box, names, 20, ("press", "turn", "print"))
             beginning = {name: some_face(chance, box) for name in names}
-            case = (box, list(names), panes, told_story(row, prints_plain(beginning, row, panes)))
+            case = (box, list(names), panes, story_of(row, prints_plain(beginning, row, panes)))
             told, many = agree(*case), agree_many(*case)
             self.assertEqual(many, 2 ** len(told[2]))
             self.assertGreater(many, 2 ** 40)
@@ -268,6 +261,10 @@ class Numbered(Checked):
                 self.assertTrue(agrees(one, panes, case[3]))
             for number in (many, many + 7, 10 ** 30, 2 ** 100000):
                 self.assertEqual(refusal(agreeing, *case, number), ("NoNumber", {"number": number}))
+
+    def test_below_nothing(self):
+        for number in (-1, -2, -(10 ** 30)):
+            self.assertEqual(refusal(agreeing, (2, 1), ["a"], PANES, [], number), ("NoNumber", {"number": number}))
 
     def test_of_a_clash_every_number(self):
         for number in (0, 1, 2, 10 ** 18, 10 ** 5000):
@@ -301,7 +298,7 @@ class Sure(Checked):
         beginning = {"a": ("o.o", ".o."), "b": ("...", "ooo")}
         panes = {name: ("ooo", "ooo") for name in names}
         row = [("print", "b"), ("print", "a")]
-        told = sure(box, names, panes, told_story(row, prints_plain(beginning, row, panes)))
+        told = sure(box, names, panes, story_of(row, prints_plain(beginning, row, panes)))
         self.assertEqual(told, [(name, (x, y), (x, y) in up_cells(beginning[name])) for name in "ab" for x in range(3) for y in range(2)])
 
     def test_many_cells(self):
@@ -496,7 +493,7 @@ class Whole(Checked):
         chance = random.Random(451)
         for box, names, panes, story in story_cases(452, 60, BOXES, 36):
             beginning = {name: some_face(chance, box) for name in names}
-            case = (box, names, panes, told_story(row_of(story), prints_plain(beginning, row_of(story), panes)))
+            case = (box, names, panes, story_of(row_of(story), prints_plain(beginning, row_of(story), panes)))
             told = agree(*case)
             self.assertEqual(told[0], "some")
             self.assertTrue(Span(map(spread, told[2])).has(spread(beginning) ^ spread(told[1])))
@@ -517,6 +514,6 @@ class Whole(Checked):
         panes = {"a": ("oo", "oo"), "b": ("oo", "oo")}
         beginning = {"a": ("o.", ".o"), "b": ("oo", "o.")}
         row = [("press", "a", "b"), ("turn", "a", "r1"), ("press", "b", "a"), ("print", "a"), ("print", "b")]
-        told = agree(box, names, panes, told_story(row, prints_plain(beginning, row, panes)))
+        told = agree(box, names, panes, story_of(row, prints_plain(beginning, row, panes)))
         self.assertEqual(told, ("some", beginning, []))
         self.assertEqual(plain_row(told[1], row), plain_row(beginning, row))

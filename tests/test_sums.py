@@ -3,7 +3,8 @@
 import random
 import unittest
 
-from faceonface.sums import fresh, inverse, is_odd, made_of, plain_rows, power, product, reduced, stairs, vanishing
+from faceonface.sums import (between, evens, fresh, inverse, is_odd, made_of, plain_rows, power, product, reduced, stairs,
+                              vanishing)
 
 
 def sums_of(numbers):
@@ -51,6 +52,25 @@ class Sums(unittest.TestCase):
             pairs = list(zip(firsts, seconds))
             due = {other & 127 for other in sums_of([first << 7 | second for first, second in pairs]) if other < 128}
             self.assertEqual(sums_of(vanishing(pairs, 7)), due)
+
+    def test_evens(self):
+        for numbers in lists(13)[:60]:
+            due = {other for other in range(128) if all(bin(other & number).count("1") % 2 == 0 for number in numbers)}
+            rows = evens(numbers, 7)
+            self.assertEqual(sums_of(rows), due)
+            self.assertEqual(rows, plain_rows(rows))
+
+    def test_between(self):
+        found = 0
+        for numbers, others in zip(lists(14), lists(15)):
+            rows = plain_rows(numbers)
+            for other in others:
+                if other not in sums_of(numbers):
+                    found += 1
+                    told = between(rows, other)
+                    self.assertFalse(any(bin(told & number).count("1") % 2 for number in numbers))
+                    self.assertEqual(bin(told & other).count("1") % 2, 1)
+        self.assertGreater(found, 300)
 
     def test_made_of(self):
         for numbers in lists(7):

@@ -20,7 +20,7 @@ from faceonface.turnings import turnings_of
 from faceonface.webs import Web
 from faceonface.wishes import answer, is_answer
 from helper import (BOXES, Span, answer_plain, box_of_faces, cases, differing, drawn, moves_plain, plain_row, prints_plain, refusal,
-                    some_face, some_faces, some_pair, some_row, spread, web_cases, wish_cases)
+                    some_face, some_faces, some_pair, some_row, spread, story_of, web_cases, wish_cases)
 
 FEW = [(1, 1), (2, 1), (1, 2), (3, 1), (1, 3)]
 MOVES = ("press", "turn")
@@ -45,11 +45,6 @@ def web_row(chance, web, many):
     """A row of a web's own deeds, by chance."""
     deeds = moves_plain(web) + [("print", name) for name in web["panes"]]
     return [chance.choice(deeds) for _ in range(many)] if deeds else []
-
-
-def story_of(row, shown):
-    shown = iter(shown)
-    return [(deed, next(shown) if deed[0] == "print" else None) for deed in row]
 
 
 class Wishes(unittest.TestCase):
